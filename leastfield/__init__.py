@@ -1,0 +1,1 @@
+"""Leastfield: plates meshed, and the field of least energy on them."""
