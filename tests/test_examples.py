@@ -1,0 +1,113 @@
+"""The examples of DOC.md that speak of the modules there are."""
+
+import doctest
+import unittest
+
+EXAMPLES = {
+    3: """
+    >>> from leastfield.fractions import mean_of, plus, read_fraction, simplest
+    >>> plus((1, 6), (1, 3)), mean_of(((1, 1), (2, 1)), ((0, 1), (3, 1))), read_fraction("-7/2")
+    ((1, 2), (2, 1), (-7, 2))
+    >>> simplest((3, 10), (2, 5)), simplest((-1, 3), (1, 4)), simplest((5, 7), (5, 7))
+    ((1, 3), (0, 1), (5, 7))
+    >>> from leastfield.points import circle_centre, circle_number, crossing_point, parts_of, point_at, whole_turn
+    >>> a, b, c = point_at(0, 0), point_at(2, 0), point_at(0, 2)
+    >>> circle_number(a, b, c, point_at(1, 1)), circle_number(a, b, c, point_at(2, 2)), circle_centre(a, b, c)
+    ((8, 1), (0, 1), ((1, 1), (1, 1)))
+    >>> parts_of(a, b, c, ((1, 2), (1, 2))), crossing_point(a, point_at(1, 1), b, c), whole_turn((0, 0), (1, 0), (1, -3))
+    (((1, 2), (1, 4), (1, 4)), None, -1)
+    """,
+    4: """
+    >>> from leastfield.inside import ring_turns, side_of, strips_area, where_in
+    >>> from leastfield.plates import Plate, plate_area, sides_of, straightened
+    >>> plate = Plate(((0, 0), (6, 0), (6, 6), (0, 6)), (((2, 2), (2, 4), (4, 4), (4, 2)),))
+    >>> plate_area(plate), strips_area(plate), sides_of(plate)[3:5], straightened(((2, 0), (2, 2), (0, 0), (1, 0)))
+    (64, (64, 1), ((3, 0), (4, 5)), ((0, 0), (2, 0), (2, 2)))
+    >>> side_of(plate, ((3, 1), (3, 1))), where_in(plate, ((5, 2), (4, 1))), ring_turns(plate.holes[0], ((3, 1), (3, 1)))
+    (-1, ('side', 5), -1)
+    """,
+    5: """
+    >>> from leastfield.meshes import Mesh, border_rings, counts, fills, opposites, plate_of
+    >>> from leastfield.places import field_at, outside_paper, place_of, place_paper
+    >>> from leastfield.plates import Plate
+    >>> points = (((0, 1), (0, 1)), ((4, 1), (0, 1)), ((4, 1), (4, 1)), ((0, 1), (4, 1)), ((1, 1), (2, 1)))
+    >>> mesh = Mesh(points, ((0, 1, 4), (0, 4, 3), (1, 2, 4), (2, 3, 4)))
+    >>> fills(Plate(((4, 0), (4, 4), (0, 4), (0, 0), (2, 0)), ()), mesh), plate_of(mesh).outer, counts(mesh)
+    (False, ((0, 0), (4, 0), (4, 4), (0, 4)), (5, 8, 4, 4, 0))
+    >>> border_rings(mesh), opposites(mesh, (1, 4)), opposites(mesh, (2, 3))
+    (((0, 1, 2, 3),), (0, 2), (4, None))
+    >>> place_of(mesh, ((2, 1), (1, 1))), place_paper(mesh, ((2, 1), (1, 1))), place_of(mesh, ((1, 2), (1, 1)))
+    (('triangle', 0), (0, ((1, 8), (3, 8), (1, 2))), ('edge', (0, 4)))
+    >>> outside_paper(mesh, ((5, 1), (1, 1))), field_at(mesh, ((0, 1), (4, 1), (8, 1), (0, 1), (2, 1)), ((2, 1), (1, 1)))
+    ((1, 0, 0, 2), (5, 2))
+    """,
+    6: """
+    >>> from leastfield.plates import Plate
+    >>> from leastfield.diagonals import diagonals_of, sure_diagonal
+    >>> dart = Plate(((0, 0), (6, 0), (2, 2), (0, 6)), ())
+    >>> diagonals_of(dart), sure_diagonal(dart)
+    (((0, 2),), (0, 2))
+    >>> from leastfield.first import all_partings, first_mesh, many_triangles
+    >>> ring = Plate(((0, 0), (9, 0), (0, 9)), (((1, 1), (1, 3), (3, 1)),))
+    >>> many_triangles(ring)
+    6
+    >>> first_mesh(dart).triangles, all_partings(Plate(((0, 0), (4, 0), (4, 4), (0, 4)), ()))
+    (((0, 1, 2), (0, 2, 3)), (((0, 2),), ((1, 3),)))
+    """,
+    7: """
+    >>> from leastfield.flips import bulge, failing, flipped, lift_sum, new_edge, settled
+    >>> from leastfield.meshes import mesh_of
+    >>> from leastfield.points import point_at
+    >>> flat = mesh_of((point_at(-1, 0), point_at(1, 0), point_at(0, 3), point_at(0, -1)), ((0, 1, 2), (0, 1, 3)))
+    >>> bulge(flat, (0, 1)), bulge(flipped(flat, (0, 1)), new_edge(flat, (0, 1)))
+    ((-16, 1), (16, 1))
+    >>> lift_sum(flat), lift_sum(flipped(flat, (0, 1))), settled(flipped(flat, (0, 1))) == flat
+    ((72, 1), (88, 1), True)
+    """,
+    8: """
+    >>> from leastfield.meshes import Mesh
+    >>> from leastfield.points import point_at
+    >>> from leastfield.weights import heavy_borders, weight, weight_by_circle, weights_of
+    >>> kite = Mesh((point_at(-1, 0), point_at(0, -2), point_at(1, 0), point_at(0, 2)), ((0, 1, 2), (0, 2, 3)))
+    >>> weights_of(kite)
+    ((0, 1, (1, 4)), (0, 2, (3, 4)), (0, 3, (1, 4)), (1, 2, (1, 4)), (2, 3, (1, 4)))
+    >>> weight(kite, (0, 2)) == weight_by_circle(kite, (0, 2)), heavy_borders(kite)
+    (True, ())
+    >>> from leastfield.energy import energy, energy_by_triangles, mixed_energy, unit_field
+    >>> from leastfield.slopes import linear_field, slope, triangle_energy
+    >>> field = ((1, 1), (0, 1), (1, 1), (0, 1))
+    >>> energy(kite, field), energy_by_triangles(kite, field), slope(kite, 1, field), triangle_energy(kite, 1, field)
+    ((1, 2), (1, 2), ((0, 1), (-1, 2)), (1, 4))
+    >>> mixed_energy(kite, field, unit_field(kite, 1)), energy(kite, linear_field(kite, (5, 1), (1, 1), (2, 1)))
+    ((-1, 2), (10, 1))
+    """,
+    9: """
+    >>> from leastfield.elimination import settled_worths
+    >>> from leastfield.networks import dropped, network_energy
+    >>> network = ((0, 1, 2, 3), ((0, 2, (1, 1)), (1, 2, (2, 1)), (2, 3, (1, 1))))
+    >>> dropped(network, 2)
+    ((0, 1, 3), ((0, 1, (1, 2)), (0, 3, (1, 4)), (1, 3, (1, 2))))
+    >>> settled_worths(network, ((0, (0, 1)), (1, (2, 1)), (3, (4, 1))))
+    ((0, (0, 1)), (1, (2, 1)), (2, (2, 1)), (3, (4, 1)))
+    """,
+    10: """
+    >>> from leastfield.meshes import Mesh
+    >>> from leastfield.putting import foot_on, put_in, quartered
+    >>> points = (((0, 1), (0, 1)), ((4, 1), (0, 1)), ((1, 1), (1, 1)))
+    >>> mesh, worths = Mesh(points, ((0, 1, 2),)), ((0, (0, 1)), (2, (1, 1)))
+    >>> put_in(mesh, ((2, 1), (0, 1))).triangles, quartered(mesh).triangles
+    (((0, 3, 2), (1, 2, 3)), ((0, 3, 4), (1, 5, 3), (2, 4, 5), (3, 5, 4)))
+    >>> foot_on(mesh, (0, 1))
+    ((1, 1), (0, 1))
+    """,
+}
+
+
+class Examples(unittest.TestCase):
+    def test_values_below_the_rows(self):
+        for section, text in EXAMPLES.items():
+            test = doctest.DocTestParser().get_doctest(text, {}, f"section {section}", None, 0)
+            told = []
+            result = doctest.DocTestRunner(verbose=False).run(test, out=told.append)
+            self.assertEqual(result.failed, 0, "".join(told))
+            self.assertGreater(result.attempted, 3)
