@@ -46,19 +46,36 @@ def whole(number):
 
 
 def plus(one, other):
-    return fraction(one[0] * other[1] + other[0] * one[1], one[1] * other[1])
+    """The sum; to divide before multiplying keeps the numbers short whose common divisors are sought."""
+    top, bottom = one
+    more, under = other
+    common = gcd(bottom, under)
+    rest = bottom // common
+    total = top * (under // common) + more * rest
+    # What still divides both divides the common part.
+    left = gcd(total, common)
+    return (total // left, rest * (under // left))
 
 
 def minus(one, other):
-    return fraction(one[0] * other[1] - other[0] * one[1], one[1] * other[1])
+    return plus(one, negative(other))
 
 
 def times(one, other):
-    return fraction(one[0] * other[0], one[1] * other[1])
+    """The product: only the top of one and the bottom of the other can have a common divisor."""
+    top, bottom = one
+    more, under = other
+    first, second = gcd(top, under), gcd(more, bottom)
+    return ((top // first) * (more // second), (bottom // second) * (under // first))
 
 
 def over(one, other):
-    return fraction(one[0] * other[1], one[1] * other[0])
+    top, bottom = other
+    if top == 0:
+        raise InvalidSize("bottom")
+    if top < 0:
+        top, bottom = -top, -bottom
+    return times(one, (bottom, top))
 
 
 def negative(one):
@@ -112,8 +129,6 @@ def least_of(some):
 
 
 def greatest_of(some):
-    if len(some) == 0:
-        raise InvalidSize("some")
     return negative(least_of([negative(one) for one in some]))
 
 

@@ -193,6 +193,8 @@ class NeedMesh(Checks):
         yield Mesh((at(0, 0), at(4, 0), at(half, 3)), ((0, 1, 2),))
         yield Mesh((at(0, 0), at(4, 0), at(1, third)), ((0, 1, 2),))
         yield Mesh((at(0, 0), at(1001, 0), at(1, 3)), ((0, 1, 2),))
+        for spot in ((half + 1, 3), (1, half + 2)):
+            yield Mesh(RING_MESH.points[:4] + (at(*spot),) + RING_MESH.points[5:], RING_MESH.triangles)
         # Two plates, apart or with one corner in common.
         yield Mesh(tuple(at(x, y) for x, y in ((0, 0), (1, 0), (0, 1), (5, 5), (6, 5), (5, 6))), ((0, 1, 2), (3, 4, 5)))
         yield Mesh(tuple(at(x, y) for x, y in ((0, 0), (1, 0), (0, 1), (2, 0), (2, 1))), ((0, 1, 2), (1, 3, 4)))
@@ -284,6 +286,14 @@ class Fills(Checks):
             self.assertEqual(one_form(form), form)
             for plate in plates:
                 self.assertIs(meshes.fills(plate, mesh), fills_by_words(plate, mesh))
+
+    def test_the_least_areas(self):
+        small = meshes.mesh_of((at(0, 0), at(1, 0), at(0, 1)), ((0, 1, 2),))
+        self.assertIs(meshes.is_mesh(small), True)
+        plate = Plate(((0, 0), (9, 0), (0, 9)), (((1, 1), (1, 2), (2, 1)),))
+        mesh = Mesh(RING_MESH.points[:4] + (at(1, 2), at(2, 1)), RING_MESH.triangles)
+        self.assertIs(meshes.is_mesh(mesh), True)
+        self.assertEqual(meshes.plate_of(mesh), plate)
 
     def test_straight_corners(self):
         self.assertIs(meshes.fills(STRAIGHT, FAN), False)

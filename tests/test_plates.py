@@ -196,6 +196,7 @@ class Plates(Checks):
         self.raises(InvalidPlate, -1, Plate, OUTER[::-1], ())
         self.raises(InvalidPlate, -1, Plate, OUTER[::-1], None)
         self.raises(InvalidPlate, -1, Plate, HOLE, (None,))
+        self.raises(InvalidPlate, -1, Plate, ((0, 0), (0, 1), (1, 0)), ())
 
     def test_holes_that_are_no_tuple(self):
         for holes in (None, [], [HOLE], "", 0, True, SQUARE):
@@ -210,6 +211,9 @@ class Plates(Checks):
             self.wrong_hole(0, value)
             self.wrong_hole(1, HOLE, value)
             self.wrong_hole(0, value, value)
+        self.wrong_hole(0, ((2, 2), (3, 2), (2, 3)))
+        self.assertEqual(Plate(((0, 0), (1, 0), (0, 1)), ()).holes, ())
+        self.assertEqual(len(Plate(OUTER, (((2, 2), (2, 3), (3, 2)),)).holes), 1)
 
     def test_holes_beyond_the_outer_ring(self):
         for hole in (((0, 2), (2, 4), (2, 2)), ((8, 2), (8, 4), (10, 3)), ((8, 2), (8, 4), (11, 3)), ((20, 2), (20, 4), (22, 3)),
