@@ -117,12 +117,10 @@ def _settle(mesh):
         edge = min(list(wrong))
         del wrong[edge]
         done.append(edge)
-        # The new edge passes; besides, a flip changes only what lies opposite to the edges around.
+        # The new edge passes, and of the edges around those that failed still do: their angles opposite only grow.
         for other in _turn_in(thirds, edge):
             if _side(mesh.points, thirds, other) > 0:
                 wrong[other] = True
-            else:
-                wrong.pop(other, None)
     return tuple(done), thirds
 
 
@@ -136,11 +134,10 @@ def _cell_from(points, thirds, numbers, triangles, first):
     found = {first: True}
     waiting = [first]
     while waiting:
-        for one, other in ways_round(triangles[waiting.pop()]):
+        triangle = triangles[waiting.pop()]
+        for one, other in ways_round(triangle):
             beside = numbers.get((other, one))
-            if beside is None or beside in found:
-                continue
-            if _side(points, thirds, edge_between(one, other)) == 0:
+            if beside not in found and _side(points, thirds, edge_between(one, other)) == 0:
                 found[beside] = True
                 waiting.append(beside)
     return list(found)

@@ -121,6 +121,32 @@ class Elimination(Checks):
                 self.assertEqual(len(found), 6)
             self.assertTrue(all(one == found[0] for one in found))
 
+    def reached(self, network, told):
+        """The points from which ways of ties lead to a told one."""
+        found = {point for point, _ in told}
+        while True:
+            more = {one for low, high, _ in network[1] for one, other in ((low, high), (high, low)) if other in found}
+            if more <= found:
+                return found
+            found |= more
+
+    def test_what_is_refused_where_all_weights_are_above_0(self):
+        random = Random(6)
+        seen = set()
+        for network in POSITIVE:
+            network = (network[0], tuple(tie for tie in network[1] if random.random() < 0.7))
+            for told in (told_some(random, network), ()):
+                free = [point for point in network[0] if point not in dict(told)]
+                order = random.sample(free, len(free))
+                right = self.reached(network, told) == set(network[0])
+                seen.add(right)
+                if right:
+                    self.assertEqual(elimination.settled_by(network, told, order), elimination.settled_worths(network, told))
+                else:
+                    self.raises(Refused, "pull", elimination.settled_by, network, told, order)
+                    self.raises(Refused, "pull", elimination.settled_worths, network, told)
+        self.assertEqual(seen, {True, False})
+
     def test_points_without_a_way_to_a_told_one(self):
         network = ((0, 1, 2, 3), ((0, 1, (1, 1)), (2, 3, (1, 1))))
         self.raises(Refused, "pull", elimination.settled_worths, network, ((0, (1, 1)),))

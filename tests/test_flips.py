@@ -5,9 +5,10 @@ from random import Random
 from leastfield import flips
 from leastfield.errors import InvalidSize, Refused
 from leastfield.meshes import Mesh, borders_of, edges_of, inner_edges, is_mesh, mesh_of, plate_of
+from leastfield.points import circle_centre
 from tests.checks import Checks
 from tests.samples import (ANY, DART_MESH, FAN, FLAT, KITE, MANY_SMALL, MESHES, STEEP, at, block, circle_determinant, cross,
-                           frac, grid_mesh, rotated, sign, spoiled, worth_of, xy)
+                           frac, grid_mesh, rotated, scalar, sign, spoiled, worth_of, xy)
 
 ALL = list(MESHES.values()) + MANY_SMALL
 EDGE_CALLS = (flips.bulge, flips.new_edge, flips.flipped)
@@ -77,6 +78,16 @@ class Bulges(Checks):
                 self.assertEqual(sign(number), sign(circle_determinant(b, a, d, c)))
             self.same(flips.failing(mesh), tuple(wrong))
         self.assertTrue(any(flips.failing(mesh) for mesh in ALL))
+
+    def test_within_both_circles(self):
+        for mesh in ALL + SHAKEN:
+            for edge in inner_edges(mesh):
+                a, b, c, d = [mesh.points[k] for k in four(mesh, edge)]
+                inside = []
+                for three, other in (((a, b, c), d), ((b, a, d), c)):
+                    centre = xy(circle_centre(*three))
+                    inside.append(scalar(centre, xy(other), xy(other)) < scalar(centre, xy(a), xy(a)))
+                self.assertEqual(inside, [not flips.passes(mesh, edge)] * 2)
 
     def test_border_edges_pass(self):
         for mesh in ALL:

@@ -5,6 +5,7 @@ from random import Random
 
 from leastfield import inside
 from leastfield.plates import Plate, corners_of, plate_area, sides_of
+from leastfield.points import is_point
 from tests.checks import Checks
 from tests.samples import PLATES, RING, SQUARE, STRAIGHT, THREE_HOLES, TWO_HOLES, WINDOW, at, cross, scalar, sign, xy
 
@@ -67,6 +68,27 @@ class Rings(Checks):
                     self.assertIn(turns, (0, 1 if ring == plate.outer else -1))
                     self.same(inside.ring_side(ring, point), 1 if turns else -1)
 
+    def meets(self, a, b, c, d):
+        """Whether the segments from a to b and from c to d, none of them a point, have a point in common."""
+        first = sign(cross(a, b, c)) * sign(cross(a, b, d))
+        second = sign(cross(c, d, a)) * sign(cross(c, d, b))
+        if cross(a, b, c) == cross(a, b, d) == 0:
+            places = sorted(Fraction(scalar(a, b, p), scalar(a, b, b)) for p in (c, d))
+            return places[0] <= 1 and places[1] >= 0
+        return first <= 0 and second <= 0
+
+    def test_along_a_way_that_meets_no_side(self):
+        ways = 0
+        for seed, plate in enumerate(EVERY.values()):
+            some = list(some_points(plate, seed + 40))[:70]
+            for ring in (plate.outer,) + plate.holes:
+                for one, other in zip(some, some[3:]):
+                    if one == other or any(self.meets(xy(one), xy(other), a, b) for a, b in sides(ring)):
+                        continue
+                    ways += 1
+                    self.same(inside.ring_turns(ring, one), inside.ring_turns(ring, other))
+        self.assertGreater(ways, 100)
+
     def test_left_and_right(self):
         for plate in EVERY.values():
             point = inside.inner_point(plate)
@@ -122,6 +144,13 @@ class Sides(Checks):
             for k in range(len(plate.outer)):
                 point = inside.inner_point(Plate(plate.outer[k:] + plate.outer[:k], plate.holes))
                 self.same(inside.side_of(plate, point), 1)
+            for right, up in (((1, 0), (0, 1)), ((0, -1), (1, 0)), ((-1, 0), (0, -1)), ((0, 1), (-1, 0))):
+                outer, *holes = [tuple((right[0] * x + right[1] * y + 7, up[0] * x + up[1] * y - 40) for x, y in ring)
+                                 for ring in (plate.outer,) + plate.holes]
+                turned = Plate(outer, tuple(holes))
+                point = inside.inner_point(turned)
+                self.same(inside.side_of(turned, point), 1)
+                self.assertTrue(is_point(point))
                 for top, bottom in point:
                     self.assertLess(max(abs(top), bottom), 10 ** 60)
         for outer in (((-1000, -1000), (1000, 999), (1000, 1000)), ((-999, 1000), (-1000, -1000), (1000, 999)),

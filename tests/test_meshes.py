@@ -204,6 +204,8 @@ class NeedMesh(Checks):
         # A corner within an edge of another triangle, at the border and inside.
         yield Mesh(tuple(at(x, y) for x, y in ((0, 0), (4, 0), (2, 4), (2, 0), (2, -3))), ((0, 1, 2), (0, 4, 3), (1, 3, 4)))
         yield Mesh(tuple(at(x, y) for x, y in ((0, 0), (4, 0), (4, 4), (0, 4), (2, 2))), ((0, 1, 2), (0, 4, 3), (2, 3, 4)))
+        yield Mesh(tuple(at(x, y) for x, y in ((0, 0), (2, 0), (0, 2), (-2, 0), (0, -2), (1, 0))),
+                   ((0, 1, 2), (0, 2, 3), (0, 3, 4), (0, 4, 5)))
         # A hole that touches the border, or another hole, in one point.
         yield Mesh(tuple(at(x, y) for x, y in ((0, 0), (8, 0), (8, 8), (0, 8), (2, 1), (1, 2))),
                    ((0, 1, 4), (0, 5, 3), (1, 2, 4), (2, 3, 5), (2, 5, 4)))
@@ -294,6 +296,7 @@ class Fills(Checks):
         mesh = Mesh(RING_MESH.points[:4] + (at(1, 2), at(2, 1)), RING_MESH.triangles)
         self.assertIs(meshes.is_mesh(mesh), True)
         self.assertEqual(meshes.plate_of(mesh), plate)
+        self.same(meshes.border_rings(meshes.renumbered(mesh, (3, 4, 5, 0, 1, 2))), ((3, 4, 5), (0, 1, 2)))
 
     def test_straight_corners(self):
         self.assertIs(meshes.fills(STRAIGHT, FAN), False)

@@ -7,7 +7,7 @@ from leastfield.errors import InvalidSize, Refused
 from leastfield.flips import passes
 from leastfield.meshes import borders_of, edges_of, inner_edges
 from tests.checks import Checks
-from tests.samples import (ANY, FAN, FLAT, KITE, MANY_SMALL, MESHES, ONE, STEEP, at, circle_determinant, cross, frac, scalar,
+from tests.samples import (ANY, FAN, FLAT, KITE, MANY_SMALL, MESHES, ONE, STEEP, Mesh, at, circle_determinant, cross, frac, scalar,
                            sign, spoiled, worth_of, xy)
 from tests.test_flips import SHAKEN, four
 
@@ -73,6 +73,8 @@ class Weights(Checks):
             self.same(weights.heavy_borders(mesh), heavy)
         self.same(weights.heavy_borders(KITE), ())
         self.same(weights.heavy_borders(ONE), ((0, 1),))
+        # Over a right angle the weight is 0, which is not below 0.
+        self.same(weights.heavy_borders(Mesh((at(0, 0), at(4, 0), at(0, 3)), ((0, 1, 2),))), ())
         # An inner edge below 0 does not count.
         self.assertTrue(worth_of(weights.weight(STEEP, (2, 3))) < 0)
         self.assertNotIn((2, 3), weights.heavy_borders(STEEP))
