@@ -2,6 +2,9 @@
 
 import unittest
 
+# The attributes in which errors keep their argument, where it is not "at".
+KEPT = {"InvalidSize": "word", "Refused": "word", "NoName": "name"}
+
 
 class Checks(unittest.TestCase):
     def raises(self, error, told, call, *arguments):
@@ -9,8 +12,8 @@ class Checks(unittest.TestCase):
         with self.assertRaises(error) as caught:
             call(*arguments)
         self.assertIs(caught.exception.__class__, error)
-        kept = [worth for worth in vars(caught.exception).values()]
-        self.assertEqual([(worth, worth.__class__) for worth in kept], [(told, told.__class__)], arguments)
+        kept = getattr(caught.exception, KEPT.get(error.__name__, "at"))
+        self.assertEqual((kept, kept.__class__), (told, told.__class__), arguments)
 
     def same(self, value, other):
         """Equality that tells bools from integers, and lists from tuples, within too."""

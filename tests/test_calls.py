@@ -167,9 +167,7 @@ class Calls(Checks):
 
     def test_classes_have_their_own_methods(self):
         for kind in (Mesh, Plate):
-            self.assertIn("__init__", vars(kind))
             self.assertIn("__eq__", vars(kind))
-            self.assertEqual(kind.__bases__, (object,))
 
 
 class Interface(Checks):

@@ -237,6 +237,40 @@ class Plates(Checks):
         self.wrong_hole(1, ((3, 3), (3, 4), (4, 4)), big)
         self.assertEqual(len(Plate(OUTER, (HOLE, ((5, 2), (5, 4), (6, 3)))).holes), 2)
 
+    def goes_round(self, ring, p):
+        """Whether a ring goes round a pair that is not on it, told by the parity of sides to the right."""
+        return sum((a[1] <= p[1]) != (b[1] <= p[1]) and (cross(a, b, p) > 0) == (b[1] > a[1]) for a, b in sides(ring)) % 2 == 1
+
+    def is_hole(self, outer, ahead, hole):
+        if sum(cross((0, 0), a, b) for a, b in sides(hole)) > 0 or meets_itself(hole):
+            return False
+        for ring in (outer,) + ahead:
+            if any(common_points(one, other)[0] for one in sides(ring) for other in sides(hole)):
+                return False
+        if not all(self.goes_round(outer, p) for p in hole):
+            return False
+        return not any(self.goes_round(ring, hole[0]) or self.goes_round(hole, ring[0]) for ring in ahead)
+
+    def test_holes_at_random(self):
+        random = Random(19)
+        outers = [((0, 0), (7, 0), (7, 7), (0, 7)), ((0, 0), (7, 0), (7, 7), (3, 3), (0, 7)), ((0, 0), (8, 0), (4, 8))]
+        found = {}
+        for _ in range(3000):
+            outer = random.choice(outers)
+            holes = tuple(tuple((random.randint(1, 6), random.randint(1, 6)) for _ in range(random.choice((3, 3, 4))))
+                          for _ in range(2))
+            holes = tuple(hole if sum(cross((0, 0), a, b) for a, b in sides(hole)) < 0 else hole[::-1] for hole in holes)
+            if any(len(set(hole)) < len(hole) for hole in holes):
+                continue
+            wrong = [k for k in (0, 1) if not self.is_hole(outer, holes[:k], holes[k])]
+            found[tuple(wrong)] = found.get(tuple(wrong), 0) + 1
+            if wrong:
+                self.raises(InvalidPlate, wrong[0], Plate, outer, holes)
+            else:
+                self.same(Plate(outer, holes).holes, holes)
+        self.assertGreater(min(found.values()), 20)
+        self.assertEqual(len(found), 4)
+
     def test_any_values(self):
         for value in ANY:
             if value == ((0, 0), (1, 0), (0, 1)):
