@@ -3,6 +3,7 @@
 from math import gcd
 
 from leastfield.errors import InvalidFraction, InvalidSize, InvalidText
+from leastfield.figures import is_number_text, is_whole_text
 from leastfield.kinds import are_ints
 
 ZERO = (0, 1)
@@ -163,11 +164,6 @@ def fraction_text(one):
     return f"{top}/{bottom}"
 
 
-def _is_number_text(text):
-    """Whether a text is a number in figures (isdigit alone takes those of other scripts, too)."""
-    return text.isascii() and text.isdigit() and (text == "0" or not text.startswith("0"))
-
-
 def read_fraction(value):
     """The fraction of a text: only just what fraction_text gives is taken."""
     if not isinstance(value, str):
@@ -177,7 +173,7 @@ def read_fraction(value):
         bottom = "1"
     elif bottom == "1":
         raise InvalidText(0)
-    if not _is_number_text(top.removeprefix("-")) or top == "-0" or not _is_number_text(bottom):
+    if not (is_whole_text(top) and is_number_text(bottom)):
         raise InvalidText(0)
     found = (int(top), int(bottom))
     if not is_fraction(found):

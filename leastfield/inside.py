@@ -4,6 +4,7 @@ from leastfield.fractions import ZERO, fraction, half, minus, plus, times, total
 from leastfield.grid import on_grid
 from leastfield.plates import corners_of, rings_of, sides_of
 from leastfield.points import point_at
+from leastfield.ranks import ascending
 from leastfield.rings import place_in, side_at, turns_round
 
 
@@ -59,11 +60,7 @@ def _crossed_half_way(plate, low, high):
         (x, y), (right, up) = corners[one], corners[other]
         if min(y, up) <= low and max(y, up) >= high:
             found.append(fraction(2 * x * (up - y) + (low + high - 2 * y) * (right - x), 2 * (up - y)))
-    # Each bottom divides the product of all: over it tops compare as worths do.
-    bottom = 1
-    for _, under in found:
-        bottom = bottom * under
-    return sorted(found, key=lambda one: one[0] * (bottom // one[1]))
+    return ascending(found)
 
 
 def inner_point(plate):

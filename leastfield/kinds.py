@@ -19,3 +19,15 @@ def is_tuple_of(value, many):
 def are_ints(value, many):
     """Whether a value is a tuple of so many integers."""
     return is_tuple_of(value, many) and all([is_int(thing) for thing in value])
+
+
+def are_numbers(value):
+    """Whether a value is an ascending tuple of numbers."""
+    if not isinstance(value, tuple):
+        return False
+    least = 0
+    for number in value:
+        if not is_int(number) or number < least:
+            return False
+        least = number + 1
+    return True

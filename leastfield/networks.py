@@ -1,21 +1,9 @@
 """Networks: points with ties of some weight between them."""
 
 from leastfield.fractions import ZERO, half, is_fraction, minus, times, total_of
-from leastfield.kinds import is_int, is_tuple_of
+from leastfield.kinds import are_numbers, is_int, is_tuple_of
 from leastfield.ties import drop_point, network_in, tie_more, ties_by_point
 from leastfield.weights import weights_of
-
-
-def _are_numbers(value):
-    """Whether a value is an ascending tuple of numbers."""
-    if not isinstance(value, tuple):
-        return False
-    least = 0
-    for number in value:
-        if not is_int(number) or number < least:
-            return False
-        least = number + 1
-    return True
 
 
 def _is_tie(points, value):
@@ -28,7 +16,7 @@ def _is_tie(points, value):
 
 
 def is_network(value):
-    if not (is_tuple_of(value, 2) and _are_numbers(value[0]) and isinstance(value[1], tuple)):
+    if not (is_tuple_of(value, 2) and are_numbers(value[0]) and isinstance(value[1], tuple)):
         return False
     points, ties = value
     ahead = (-1, -1)

