@@ -9,6 +9,7 @@ import os
 from tests.checks import Checks
 from tests.nets import EXAMPLE
 from tests.samples import FAN, KITE, RING, SQUARE, STEEP, WINDOW, Mesh, Plate, at, is_deep_tuple
+from leastfield.studio import Studio
 
 PACKAGE = os.path.join(os.path.dirname(os.path.dirname(os.path.abspath(__file__))), "leastfield")
 
@@ -19,6 +20,12 @@ LOW = at(2, 1)
 WORTHS = ((0, (0, 1)), (1, (2, 1)), (2, (1, 3)), (3, (4, 1)))
 TOLD = ((0, (0, 1)), (1, (2, 1)), (3, (4, 1)))
 SOME = ((1, 2), (-1, 3), (5, 1))
+FAN_WORTHS = ((0, (0, 1)), (2, (1, 1)))
+LEVEL = (3, 2)
+FRAME = (at(0, 0), (1, 2), 6, 4)
+TELLING = (((0, (0, 1)), (1, (4, 1))), (0,), ((at(2, 1), (1, 2)),))
+STREAM = ((1, 1), (2, 1), (3, 1))
+FLOWING = ((0, 1), (1, 1), (0, 1), (-1, 1))
 FAN_MESH_PLACE = (0, ((1, 8), (3, 8), (1, 2)))
 
 # For each module: name of the function, names of its parameters, arguments of a call, the places of sequences.
@@ -97,6 +104,54 @@ CALLS = {
     "energy": [
         ("mixed_energy", "mesh field other", [FAN, F, G]), ("energy", "mesh field", [FAN, F]),
         ("energy_by_triangles", "mesh field", [FAN, F]), ("unit_field", "mesh point", [FAN, 2])],
+    "platetext": [
+        ("plate_text", "plate", [WINDOW]), ("read_plate", "value", ["outer 0,0 6,0 6,6 0,6\nhole 2,2 2,4 4,4 4,2"])],
+    "circles": [
+        ("power", "mesh number point", [STEEP, 1, P]), ("seen_from", "mesh corner", [STEEP, 0]), ("held", "mesh", [STEEP]),
+        ("clear_circles", "mesh", [STEEP]), ("clear_paper", "mesh", [KITE]), ("torn_paper", "mesh", [STEEP]),
+        ("check_clear", "mesh value", [KITE, (((0, 2), 1, 3),)]), ("check_torn", "mesh value", [STEEP, ((2, 3), 1)])],
+    "field": [
+        ("need_worths", "mesh value", [FAN, FAN_WORTHS]), ("need_field", "mesh value", [FAN, F]),
+        ("least_field", "mesh worths", [FAN, FAN_WORTHS]), ("flows", "mesh field", [FAN, F]),
+        ("check_field", "mesh worths value", [FAN, FAN_WORTHS, F]), ("more_energy", "mesh field other", [FAN, F, G])],
+    "bounds": [
+        ("is_calm", "mesh worths", [FAN, FAN_WORTHS]), ("span_of", "worths", [FAN_WORTHS]), ("is_strict", "network", [EXAMPLE]),
+        ("stream_of", "network worths", [EXAMPLE, WORTHS]), ("sources_of", "network stream", [EXAMPLE, STREAM]),
+        ("is_stream", "network told value", [EXAMPLE, TOLD, STREAM]), ("stream_floor", "network told stream", [EXAMPLE, TOLD, STREAM]),
+        ("least_paper", "mesh worths", [KITE, FAN_WORTHS]), ("check_least_paper", "mesh worths value", [KITE, FAN_WORTHS, (F, G)])],
+    "streams": [
+        ("edge_flows", "mesh field", [FAN, F]), ("cut_flow", "mesh field some", [FAN, F, (4, 0)], 2),
+        ("check_stream_worths", "mesh field value", [KITE, FLOWING, ((0, 1), (3, 4))]), ("stream_worths", "mesh field", [KITE, FLOWING]),
+        ("swirl", "mesh field other", [FAN, F, G]), ("round_sum", "mesh field other", [FAN, F, G])],
+    "levels": [
+        ("high_points", "mesh field level", [FAN, F, LEVEL]), ("gates", "mesh field level", [FAN, F, LEVEL]),
+        ("gate_point", "mesh field level gate", [FAN, F, LEVEL, (1, 0)]), ("regions", "mesh field level", [FAN, F, LEVEL])],
+    "tellings": [
+        ("need_telling", "plate value", [SQUARE, TELLING]), ("told_worth", "plate telling point", [SQUARE, TELLING, P]),
+        ("worths_of", "plate telling mesh", [SQUARE, TELLING, FAN]), ("times_telling", "telling often", [TELLING, LEVEL]),
+        ("sum_of_tellings", "one other", [TELLING, TELLING]), ("is_told_by", "plate telling other", [SQUARE, TELLING, TELLING])],
+    "studio": [("mesh_with", "plate knots", [SQUARE, (P, LOW)], 1), ("Studio", "plate", [SQUARE])],
+    "peeling": [
+        ("loose", "mesh gone", [FAN, (0,)]), ("peeled", "mesh", [FAN]), ("check_peeled", "mesh value", [FAN, (0, 1, 2)])],
+    "bridges": [
+        ("bridges_of", "plate", [RING]), ("walk_along", "plate bridges", [RING, ((1, 5),)]), ("walk_of", "plate", [RING]),
+        ("walk_area", "plate walk", [RING, (0, 3, 4, 5, 3, 0, 1, 2)], 1)],
+    "ears": [
+        ("ears_of", "plate walk", [RING, (0, 3, 4, 5, 3, 0, 1, 2)], 1), ("ear_cut", "walk place", [(0, 1, 2, 3), 1], 0),
+        ("mesh_by_ears", "plate", [RING])],
+    "lumps": [
+        ("lumps", "mesh", [FAN]), ("warmth", "mesh field", [FAN, F]), ("gap_square", "mesh field other", [FAN, F, G])],
+    "lines": [
+        ("open_lines", "mesh field level", [FAN, F, LEVEL]), ("closed_lines", "mesh field level", [FAN, G, (-1, 2)]),
+        ("line_points", "mesh field level line", [FAN, F, LEVEL, ((2, 3), (4, 3), (4, 0), (1, 0))]),
+        ("surrounded", "mesh line", [FAN, ((4, 0), (4, 1), (4, 2), (4, 3))])],
+    "layers": [
+        ("line_flow", "mesh field line", [FAN, F, ((2, 3), (4, 3), (4, 0), (1, 0))], 2), ("flow_over", "mesh field level", [FAN, F, LEVEL]),
+        ("ladder", "mesh field", [FAN, F]), ("area_above", "mesh field level", [FAN, F, LEVEL]), ("layers_sum", "mesh field", [FAN, F])],
+    "raster": [
+        ("need_frame", "value", [FRAME]), ("spots", "frame", [FRAME]), ("sampled", "mesh field frame", [FAN, F, FRAME]),
+        ("picture", "mesh field frame levels", [FAN, F, FRAME, SOME], 3)],
+    "commands": [("call_text", "call", [("knot", P, None)]), ("read_call", "value", ["tell 2 -7/2"])],
 }
 
 
@@ -112,6 +167,8 @@ def told(value):
         return f"Mesh({value.points!r}, {value.triangles!r})"
     if isinstance(value, Plate):
         return f"Plate({value.outer!r}, {value.holes!r})"
+    if isinstance(value, Studio):
+        return f"Studio({told(value.plate)}, {told(value.mesh())}, {value.telling()!r}, {value.calls()!r})"
     return repr(value)
 
 
@@ -160,7 +217,7 @@ class Calls(Checks):
                 self.assertEqual(told(result), before, call)
 
     def test_objects_are_not_iterable_and_have_no_length(self):
-        for one in (FAN, WINDOW):
+        for one in (FAN, WINDOW, Studio(SQUARE)):
             for call in (iter, len):
                 with self.assertRaises(TypeError):
                     call(one)
@@ -182,4 +239,6 @@ class Interface(Checks):
         many = {module: len(rows) for module, rows in CALLS.items()}
         self.assertEqual(many, {"fractions": 21, "points": 22, "plates": 17, "inside": 6, "meshes": 16, "places": 6, "flips": 11,
                                 "weights": 5, "diagonals": 6, "first": 7, "networks": 8, "elimination": 4, "putting": 7,
-                                "slopes": 3, "energy": 4})
+                                "slopes": 3, "energy": 4, "platetext": 2, "circles": 8, "field": 6, "bounds": 9, "streams": 6,
+                                "levels": 4, "tellings": 6, "studio": 2, "peeling": 3, "bridges": 4, "ears": 3, "lumps": 3, "lines": 4,
+                                "layers": 5, "raster": 4, "commands": 2})

@@ -1,7 +1,10 @@
 """The examples of DOC.md that speak of the modules there are."""
 
 import doctest
+import os
 import unittest
+
+README = os.path.join(os.path.dirname(os.path.dirname(os.path.abspath(__file__))), "README.md")
 
 EXAMPLES = {
     3: """
@@ -179,3 +182,11 @@ class Examples(unittest.TestCase):
             result = doctest.DocTestRunner(verbose=False).run(test, out=told.append)
             self.assertEqual(result.failed, 0, "".join(told))
             self.assertGreater(result.attempted, 1)
+
+    def test_readme(self):
+        with open(README, encoding="utf-8") as file:
+            test = doctest.DocTestParser().get_doctest(file.read(), {}, "README.md", None, 0)
+        told = []
+        result = doctest.DocTestRunner(verbose=False).run(test, out=told.append)
+        self.assertEqual(result.failed, 0, "".join(told))
+        self.assertGreater(result.attempted, 3)
