@@ -55,8 +55,11 @@ def is_free(c, place, borders):
     return True
 
 
-def sees(mesh, number, corner):
-    """Whether a triangle sees a corner: places in all directions between those of points are tried."""
+def sight(mesh, number, corner):
+    """A way from a corner and a place strictly within a triangle on it that sees the corner, None if there is none.
+
+    Ways in all directions between those of points are tried.
+    """
     spots = [xy(point) for point in mesh.points]
     c = spots[corner]
     corners = [spots[k] for k in mesh.triangles[number]]
@@ -71,8 +74,35 @@ def sees(mesh, number, corner):
             low, high = stretch_along(c, way, corners)
             place = tuple(c[k] + (low + high) / 2 * way[k] for k in (0, 1))
             if is_free(c, place, borders):
-                return True
-    return False
+                return way, place
+    return None
+
+
+# What was found, so that nothing is looked for twice.
+FOUND = {}
+
+
+def known_sight(mesh, number, corner):
+    key = (mesh.points, mesh.triangles, number, corner)
+    if key not in FOUND:
+        FOUND[key] = sight(mesh, number, corner)
+    return FOUND[key]
+
+
+def sees(mesh, number, corner):
+    return known_sight(mesh, number, corner) is not None
+
+
+def triangles_along(mesh, corner, way, number):
+    """The numbers of the triangles along a way from a triangle to a corner."""
+    spots = [xy(point) for point in mesh.points]
+    c, parts = spots[corner], {}
+    for k, triangle in enumerate(mesh.triangles):
+        corners = [spots[n] for n in triangle]
+        sides = [cross((0, 0), way, (p[0] - c[0], p[1] - c[1])) for p in corners]
+        if min(sides) < 0 < max(sides):
+            parts[k] = stretch_along(c, way, corners)[1]
+    return sorted([k for k in parts if 0 < parts[k] <= parts[number]], key=lambda k: -parts[k])
 
 
 def squared_gap(mesh, number, point):
@@ -126,6 +156,20 @@ class Circles(Checks):
             self.assertIs(circles.clear_circles(mesh), failing(mesh) == ())
             seen.add(failing(mesh) == ())
         self.assertEqual(seen, {True, False})
+
+    def test_powers_never_rise_on_the_way_to_a_corner(self):
+        long = 0
+        for mesh in CLEAR:
+            for corner, point in enumerate(mesh.points):
+                for number in range(len(mesh.triangles)):
+                    found = known_sight(mesh, number, corner)
+                    if found is not None:
+                        row = triangles_along(mesh, corner, found[0], number)
+                        powers = [squared_gap(mesh, k, point) for k in row]
+                        long += len(row) > 3
+                        self.assertEqual((row[0], powers[-1]), (number, 0))
+                        self.assertEqual(powers, sorted(powers, reverse=True))
+        self.assertGreater(long, 100)
 
     def test_hidden_corners_may_be_within_circles(self):
         hidden = 0

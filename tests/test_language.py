@@ -148,6 +148,11 @@ class Statements(unittest.TestCase):
         for name, node in everywhere(ast.BinOp):
             self.assertNotIsInstance(node.op, (ast.Div, ast.MatMult), (name, node.lineno))
 
+    def test_no_generators(self):
+        # Plates and meshes have their own ==: so any, all, sum, sorted and the like take lists.
+        for name, node in everywhere((ast.GeneratorExp, ast.Yield, ast.YieldFrom)):
+            self.fail((name, node.lineno))
+
     def test_no_percent_sign_in_strings(self):
         for name, node in everywhere(ast.Constant):
             if isinstance(node.value, str):
@@ -194,6 +199,14 @@ class Names(unittest.TestCase):
             if node.id in ALL_BUILTINS and isinstance(node.ctx, ast.Load):
                 self.assertTrue(node.id in BUILTINS or (file == "__main__.py" and node.id in ("print", "__name__")),
                                 (file, node.lineno))
+
+    def test_no_method_is_an_attribute(self):
+        methods = {child.name for _, node in everywhere(ast.ClassDef) for child in node.body if isinstance(child, ast.FunctionDef)}
+        kept = {node.attr for _, node in everywhere(ast.Attribute) if isinstance(node.ctx, ast.Store)}
+        self.assertEqual(methods & kept, set())
+        self.assertEqual((methods | kept) & {"items", "keys", "values", "format", "args", "sort"}, set())
+        read = {node.attr for _, node in everywhere(ast.Attribute) if isinstance(node.ctx, ast.Load)}
+        self.assertEqual(read - methods - kept - METHODS, set())
 
     def test_only_some_methods_are_called(self):
         own = {node.name for _, node in everywhere(ast.FunctionDef)}
