@@ -34,15 +34,27 @@ def _read_corner(text):
     return int(text)
 
 
+def _read_fraction(text):
+    try:
+        return read_fraction(text)
+    except InvalidText:
+        raise InvalidCommand() from None
+
+
+def read_point(text):
+    """The point of two texts of fractions with a comma between."""
+    right, _, up = text.partition(",")
+    return (_read_fraction(right), _read_fraction(up))
+
+
 def _read_thing(kind, text):
     if kind == "corner":
         return _read_corner(text)
     if kind == "flag":
         return _read_flag(text)
     if kind == "point":
-        right, _, up = text.partition(",")
-        return (read_fraction(right), read_fraction(up))
-    return None if text == "_" else read_fraction(text)
+        return read_point(text)
+    return None if text == "_" else _read_fraction(text)
 
 
 def read_call(value):
@@ -53,7 +65,4 @@ def read_call(value):
     kinds = KINDS.get(word)
     if kinds is None or len(kinds) != len(texts):
         raise InvalidCommand()
-    try:
-        return (word,) + tuple([_read_thing(kind, text) for kind, text in zip(kinds, texts)])
-    except InvalidText:
-        raise InvalidCommand() from None
+    return (word,) + tuple([_read_thing(kind, text) for kind, text in zip(kinds, texts)])

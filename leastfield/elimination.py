@@ -26,12 +26,17 @@ def reduced(network, stay):
     return network_in(table)
 
 
-def settled_by(network, told, order):
-    """The worths of least energy with some told, found by dropping the other points in an order."""
+def put_back(means, told):
+    """The worths of all points, where those that were dropped are put back, the last one first."""
     worths = dict(told)
-    for point, shares in reversed(means_of(network, order)):
+    for point, shares in reversed(means):
         worths[point] = total_of([times(share, worths[other]) for other, share in shares])
     return tuple([(point, worths[point]) for point in sorted(worths)])
+
+
+def settled_by(network, told, order):
+    """The worths of least energy with some told, found by dropping the other points in an order."""
+    return put_back(means_of(network, order), told)
 
 
 def settled_worths(network, told):

@@ -38,6 +38,11 @@ def least_field(mesh, worths):
     return tuple([worth for _, worth in settled_by(network, worths, order)])
 
 
+def least_energy(mesh, worths):
+    """The energy of the least field."""
+    return energy(mesh, least_field(mesh, worths))
+
+
 def flows(mesh, field):
     """What flows out of each point."""
     network = network_of(mesh)

@@ -4,7 +4,7 @@ from leastfield.errors import InvalidSize, Refused
 from leastfield.fractions import plus, times, total_of
 from leastfield.meshes import Mesh, opposites
 from leastfield.points import circle_number, circle_side, crosses, doubled_area
-from leastfield.thirds import (add_triangle, corners_beside, edge_between, edges_in, is_edge_of, is_inner, numbers_of,
+from leastfield.thirds import (corners_beside, edge_between, edges_in, flip_in, is_edge_of, is_inner, numbers_of,
                                rings_round, thirds_of, triangles_of, ways_round)
 
 
@@ -76,15 +76,6 @@ def new_edge(mesh, edge):
     return edge_between(left, right)
 
 
-def _turn_in(thirds, edge):
-    """Flips an edge within the thirds; the list of the four edges around it."""
-    low, high = edge
-    left, right = thirds.pop((low, high)), thirds.pop((high, low))
-    add_triangle(thirds, (left, right, high))
-    add_triangle(thirds, (right, left, low))
-    return [edge_between(one, other) for one in (left, right) for other in (low, high)]
-
-
 def run_flips(mesh, edges):
     """The mesh behind some flips, one by one."""
     thirds = thirds_of(mesh.triangles)
@@ -92,7 +83,7 @@ def run_flips(mesh, edges):
         _need_inner(thirds, edge)
         if not _is_crossed(mesh.points, thirds, edge):
             raise Refused("turn")
-        _turn_in(thirds, edge)
+        flip_in(thirds, edge)
     return Mesh(mesh.points, triangles_of(thirds))
 
 
@@ -100,9 +91,14 @@ def flipped(mesh, edge):
     return run_flips(mesh, (edge,))
 
 
+def lifts_of(mesh):
+    """The field that is the lift at each point."""
+    return tuple([plus(times(x, x), times(y, y)) for x, y in mesh.points])
+
+
 def lift_sum(mesh):
     """Six times the volume below the lift."""
-    lifts = [plus(times(x, x), times(y, y)) for x, y in mesh.points]
+    lifts = lifts_of(mesh)
     points = mesh.points
     return total_of([times(doubled_area(points[a], points[b], points[c]), total_of((lifts[a], lifts[b], lifts[c])))
                      for a, b, c in mesh.triangles])
@@ -118,7 +114,7 @@ def _settle(mesh):
         del wrong[edge]
         done.append(edge)
         # The new edge passes, and of the edges around those that failed still do: their angles opposite only grow.
-        for other in _turn_in(thirds, edge):
+        for other in flip_in(thirds, edge):
             if _side(mesh.points, thirds, other) > 0:
                 wrong[other] = True
     return tuple(done), thirds

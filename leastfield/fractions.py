@@ -32,6 +32,11 @@ def is_fraction(value):
     return _fault_of(value) is None
 
 
+def is_positive(value):
+    """Whether a value is a fraction above 0."""
+    return is_fraction(value) and value[0] > 0
+
+
 def fraction(top, bottom):
     """The fraction that is the quotient of two integers."""
     if bottom == 0:

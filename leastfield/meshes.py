@@ -1,6 +1,6 @@
 """Meshes: points, and triangles of them that fill a plate."""
 
-from leastfield.errors import FieldError, InvalidMesh, InvalidPoint, InvalidSize
+from leastfield.errors import FieldError, InvalidMesh, InvalidPoint, InvalidSize, Refused
 from leastfield.fractions import total_of
 from leastfield.kinds import are_ints
 from leastfield.plates import corners_of, one_form, plate_of_rings, ring_area
@@ -146,6 +146,11 @@ def border_rings(mesh):
     """The rings of numbers along the border, the outer one first, the others ascending."""
     rings = rings_round(border_ways(thirds_of(mesh.triangles)))
     return tuple(sorted(rings, key=lambda ring: (ring_area(_straight_ring(mesh.points, ring)) < 0, ring)))
+
+
+def need_no_holes(mesh):
+    if len(border_rings(mesh)) > 1:
+        raise Refused("holes")
 
 
 def counts(mesh):

@@ -1,14 +1,9 @@
 """Triangles taken off a mesh without holes, one by one."""
 
-from leastfield.errors import InvalidSize, Refused
+from leastfield.errors import InvalidSize
 from leastfield.kinds import are_ints
-from leastfield.meshes import border_rings
+from leastfield.meshes import need_no_holes
 from leastfield.thirds import border_ways, thirds_of, ways_round
-
-
-def _need_no_holes(mesh):
-    if len(border_rings(mesh)) > 1:
-        raise Refused("holes")
 
 
 def _loose_in(triangles, left):
@@ -45,7 +40,7 @@ def _left_by(mesh, gone):
 
 def loose(mesh, gone):
     """The numbers of the triangles that are loose when some have gone."""
-    _need_no_holes(mesh)
+    need_no_holes(mesh)
     left = _left_by(mesh, gone)
     if left is None:
         raise InvalidSize("gone")
@@ -54,7 +49,7 @@ def loose(mesh, gone):
 
 def peeled(mesh):
     """All triangles but one, each loose when it goes."""
-    _need_no_holes(mesh)
+    need_no_holes(mesh)
     left = list(range(len(mesh.triangles)))
     gone = []
     while len(left) > 1:
@@ -64,6 +59,6 @@ def peeled(mesh):
 
 
 def check_peeled(mesh, value):
-    _need_no_holes(mesh)
+    need_no_holes(mesh)
     left = _left_by(mesh, value)
     return left is not None and len(left) == 1

@@ -112,9 +112,9 @@ def triangle_side(a, b, c, p):
 
 def whole_on(a, b, p):
     """Whether a pair of integers lies on the way from a to b, the ends counted."""
-    return (whole_area(a, b, p) == 0
-            and min(a[0], b[0]) <= p[0] <= max(a[0], b[0])
-            and min(a[1], b[1]) <= p[1] <= max(a[1], b[1]))
+    return (min(a[0], b[0]) <= p[0] <= max(a[0], b[0])
+            and min(a[1], b[1]) <= p[1] <= max(a[1], b[1])
+            and whole_area(a, b, p) == 0)
 
 
 def on_segment(a, b, p):

@@ -1,15 +1,12 @@
 """Fractions in the order of their worths."""
 
-from math import lcm
-
 
 def ascending(some):
     """The list of some fractions, ascending by worth."""
-    common = 1
-    for _, bottom in some:
-        common = lcm(common, bottom)
-    # Over one bottom tops compare as worths do.
-    return sorted(some, key=lambda one: one[0] * (common // one[1]))
+    longest = max([bottom.bit_length() for _, bottom in some], default=0)
+    # Unlike fractions are more than one part of this scale apart: so whole parts compare as worths do.
+    scale = 1 << (2 * longest)
+    return sorted(some, key=lambda one: one[0] * scale // one[1])
 
 
 def unlike(some):

@@ -1,7 +1,7 @@
 """Fields looked at on rows of spots, and pictures of them."""
 
 from leastfield.errors import InvalidSize, Refused
-from leastfield.fractions import compared, is_fraction, plus, times, whole
+from leastfield.fractions import compared, is_positive, plus, times, whole
 from leastfield.kinds import is_int, is_tuple_of
 from leastfield.places import field_at
 from leastfield.points import need_point
@@ -14,7 +14,7 @@ def need_frame(value):
         raise InvalidSize("frame")
     point, step, wide, high = value
     need_point(point)
-    if not is_fraction(step) or step[0] <= 0:
+    if not is_positive(step):
         raise InvalidSize("step")
     if not is_int(wide) or not 1 <= wide <= _MOST:
         raise InvalidSize("wide")

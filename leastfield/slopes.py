@@ -9,8 +9,8 @@ def _corners(mesh, number):
     return mesh.points[a], mesh.points[b], mesh.points[c]
 
 
-def _wedge(one, other):
-    """The determinant of two ways, pairs of fractions."""
+def wedge(one, other):
+    """The determinant of two ways, each told by its first two fractions."""
     return minus(times(one[0], other[1]), times(one[1], other[0]))
 
 
@@ -19,8 +19,8 @@ def slope(mesh, number, field):
     a, b, c = _corners(mesh, number)
     worths = [field[corner] for corner in mesh.triangles[number]]
     first, second = minus(worths[1], worths[0]), minus(worths[2], worths[0])
-    right = _wedge((first, second), (minus(b[1], a[1]), minus(c[1], a[1])))
-    up = _wedge((minus(b[0], a[0]), minus(c[0], a[0])), (first, second))
+    right = wedge((first, second), (minus(b[1], a[1]), minus(c[1], a[1])))
+    up = wedge((minus(b[0], a[0]), minus(c[0], a[0])), (first, second))
     area = doubled_area(a, b, c)
     return (over(right, area), over(up, area))
 

@@ -1,12 +1,13 @@
 """Tellings: which worths are told at corners, on sides and at knots of a plate."""
 
+from leastfield.between import worth_between
 from leastfield.errors import InvalidWorths, Refused
-from leastfield.fractions import is_fraction, minus, over, plus, times
+from leastfield.fractions import is_fraction, plus, times
 from leastfield.inside import where_in
 from leastfield.kinds import are_numbers, is_tuple_of
 from leastfield.pairs import firsts_of, wrong_pair
 from leastfield.plates import corners_of, sides_of
-from leastfield.points import dot, is_point, point_at, squared_distance
+from leastfield.points import is_point, point_at
 
 
 def _are_told_sides(plate, corners, value):
@@ -52,8 +53,7 @@ def _worth_on_side(plate, corners, side, point):
     one, other = sides_of(plate)[side]
     a, b = [point_at(x, y) for x, y in (corners_of(plate)[one], corners_of(plate)[other])]
     table = dict(corners)
-    part = over(dot(a, b, point), squared_distance(a, b))
-    return plus(table[one], times(part, minus(table[other], table[one])))
+    return worth_between(a, b, table[one], table[other], point)
 
 
 def told_worth(plate, telling, point):

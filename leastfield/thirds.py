@@ -63,6 +63,15 @@ def is_inner(thirds, edge):
     return edge in thirds and (edge[1], edge[0]) in thirds
 
 
+def flip_in(thirds, edge):
+    """Flips an inner edge within the thirds; the list of the four edges around it."""
+    low, high = edge
+    left, right = thirds.pop((low, high)), thirds.pop((high, low))
+    add_triangle(thirds, (left, right, high))
+    add_triangle(thirds, (right, left, low))
+    return [edge_between(one, other) for one in (left, right) for other in (low, high)]
+
+
 def rings_round(ways):
     """The rings that directed edges make, ascending, each from its least number on.
 

@@ -34,9 +34,9 @@ def grown(plate, seed, many):
 
 
 def random_worths(random, mesh, many=None):
-    """Told worths of some points of a mesh, one at least."""
+    """Told worths of some points of a mesh, one at least, all at most."""
     numbers = range(len(mesh.points))
-    some = sorted(random.sample(numbers, many or random.randint(1, len(numbers))))
+    some = sorted(random.sample(numbers, min(many or random.randint(1, len(numbers)), len(numbers))))
     return tuple((number, random_frac(random)) for number in some)
 
 
