@@ -3,6 +3,7 @@
 from fractions import Fraction
 from random import Random
 
+from leastfield.desk import Desk
 from leastfield.errors import FieldError, InvalidCommand, InvalidPoint, NoName, Refused
 from leastfield.meshes import Mesh
 from leastfield.plates import Plate
@@ -168,7 +169,7 @@ ANY = (
     ((0, 1, (1, 1)),), ((0, 1), ((0, 1, (1, 2)),)), (0, ((1, 3), (1, 3), (1, 3))),
     SQUARE, WINDOW, FAN, KITE, Mesh(None, None), Mesh([], []), Mesh((), ()), Mesh(3, "abc"), Mesh((True,), (None,)),
     FieldError(), InvalidPoint(3), InvalidCommand(), Refused("edge"), NoName(None),
-    Studio(SQUARE), (Studio(WINDOW), (0, 1)), ("tell", 0, Studio(SQUARE)), "tell 0 1\n", "outer 0,0 4,0", ("undo", None),
+    Studio(SQUARE), (Studio(WINDOW), (0, 1)), Desk(SQUARE), [Desk(TRIANGLE)], ("tell", 0, Studio(SQUARE)), "tell 0 1\n", "outer 0,0 4,0", ("undo", None),
     (SQUARE, FAN), [FAN], (FAN,), ((FAN, 1), (0, 1)), nested(30), (nested(29), nested(28)),
 )
 
@@ -198,6 +199,8 @@ def is_deep_tuple(value):
         return is_deep_tuple(value.points) and is_deep_tuple(value.triangles)
     if isinstance(value, Plate):
         return is_deep_tuple(value.outer) and is_deep_tuple(value.holes)
+    if isinstance(value, Desk):
+        return is_deep_tuple(value.studio) and is_deep_tuple(value.said()) and is_deep_tuple(value.shown())
     if isinstance(value, Studio):
         return is_deep_tuple(value.telling()) and is_deep_tuple(value.mesh()) and is_deep_tuple(value.calls())
     return value is None or isinstance(value, (int, str))

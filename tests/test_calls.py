@@ -8,7 +8,8 @@ import os
 
 from tests.checks import Checks
 from tests.nets import EXAMPLE
-from tests.samples import FAN, KITE, RING, SQUARE, STEEP, WINDOW, Mesh, Plate, at, is_deep_tuple
+from tests.samples import FAN, FLAT, KITE, RING, SQUARE, STEEP, WINDOW, Mesh, Plate, at, is_deep_tuple
+from leastfield.desk import Desk
 from leastfield.studio import Studio
 
 PACKAGE = os.path.join(os.path.dirname(os.path.dirname(os.path.abspath(__file__))), "leastfield")
@@ -27,6 +28,12 @@ TELLING = (((0, (0, 1)), (1, (4, 1))), (0,), ((at(2, 1), (1, 2)),))
 STREAM = ((1, 1), (2, 1), (3, 1))
 FLOWING = ((0, 1), (1, 1), (0, 1), (-1, 1))
 FAN_MESH_PLACE = (0, ((1, 8), (3, 8), (1, 2)))
+H = ((0, 1), (1, 1), (4, 1), (1, 3))
+KNOTS = ((at(2, 0), False), (P, False))
+BOX = (at(0, 0), at(1, 3))
+MARKS = (1, 2, 3, 0)
+PLACES = (P, LOW)
+MOVE = (2, 1, -3, 4)
 
 # For each module: name of the function, names of its parameters, arguments of a call, the places of sequences.
 CALLS = {
@@ -152,6 +159,57 @@ CALLS = {
         ("need_frame", "value", [FRAME]), ("spots", "frame", [FRAME]), ("sampled", "mesh field frame", [FAN, F, FRAME]),
         ("picture", "mesh field frame levels", [FAN, F, FRAME, SOME], 3)],
     "commands": [("call_text", "call", [("knot", P, None)]), ("read_call", "value", ["tell 2 -7/2"])],
+    "lowering": [
+        ("jump", "mesh field edge", [STEEP, H, (2, 3)]), ("energy_change", "mesh field edge", [STEEP, H, (2, 3)]),
+        ("energies_along", "mesh field edges", [STEEP, H, ((2, 3), (0, 1))], 2)],
+    "finer": [
+        ("need_knots", "value", [KNOTS]), ("finer", "mesh worths knots", [FAN, FAN_WORTHS, KNOTS]),
+        ("finer_rows", "mesh worths knots", [FAN, FAN_WORTHS, KNOTS]),
+        ("check_finer", "mesh worths knots value", [FAN, FAN_WORTHS, KNOTS, (F, G)]), ("fall", "mesh worths knots", [FAN, FAN_WORTHS, KNOTS]),
+        ("fall_parts", "mesh worths point", [FAN, FAN_WORTHS, P])],
+    "halving": [
+        ("longest_edge", "mesh", [FAN]), ("halvings", "mesh size", [FAN, (9, 1)]), ("halved", "mesh size", [FAN, (9, 1)]),
+        ("halvings_bound", "mesh size", [FAN, (9, 1)])],
+    "feet": [
+        ("is_upright", "plate", [WINDOW]), ("wild_edges", "mesh worths", [FAN, FAN_WORTHS]), ("calmed", "mesh worths most", [FAN, FAN_WORTHS, 5]),
+        ("feet_bound", "mesh", [FAN])],
+    "marks": [
+        ("need_marks", "mesh value", [FAN, MARKS]), ("arcs_of", "mesh marks", [FAN, MARKS]), ("across_worths", "mesh marks", [FAN, MARKS]),
+        ("along_worths", "mesh marks", [FAN, MARKS]), ("bracket_paper", "mesh marks", [FAN, MARKS]), ("bracket", "mesh marks", [FAN, MARKS]),
+        ("check_bracket", "mesh marks low high value", [FAN, MARKS, (0, 1), (9, 1), (F, G)])],
+    "resistance": [
+        ("conductance", "mesh source drain", [FAN, (0, 4), (2,)], 1, 2), ("resistance", "mesh one other", [FAN, 0, 2]),
+        ("potential", "mesh one other", [FAN, 0, 2]), ("resistances", "mesh", [FAN])],
+    "warming": [
+        ("need_time", "value", [LEVEL]), ("with_told", "field worths", [F, FAN_WORTHS]),
+        ("memory_network", "mesh worths field time", [FAN, FAN_WORTHS, F, LEVEL]), ("step", "mesh worths field time", [FAN, FAN_WORTHS, F, LEVEL]),
+        ("steps", "mesh worths field some", [FAN, FAN_WORTHS, F, (LEVEL, (1, 3))], 3),
+        ("check_step", "mesh worths field time value", [FAN, FAN_WORTHS, F, LEVEL, G]), ("spread", "mesh told time", [FAN, (0, 2), LEVEL])],
+    "cooling": [
+        ("resistances_to", "mesh told", [FAN, (0, 2)]), ("slowness", "mesh told", [FAN, (0, 2)]), ("shrinks", "mesh told time", [FAN, (0, 2), LEVEL]),
+        ("gap_bound", "mesh worths field some", [FAN, FAN_WORTHS, F, (LEVEL, (1, 3))], 3),
+        ("steps_enough", "mesh worths field time small", [FAN, FAN_WORTHS, F, (40, 1), (1, 99)])],
+    "responses": [
+        ("sum_of_fields", "parts", [(((1, 2), F), ((-1, 3), G))], 0), ("share_fields", "mesh told", [FAN, (0, 2)]),
+        ("response", "mesh told", [FAN, (0, 2)]), ("response_of_network", "network", [EXAMPLE]), ("reduced_response", "mesh told", [FAN, (0, 2)])],
+    "stars": [("inner_points", "mesh", [FAN]), ("star_of", "mesh number", [FAN, 4]), ("triangles_round", "mesh number", [FAN, 1])],
+    "stretches": [
+        ("meetings", "plate a b", [WINDOW, A, D]), ("stretches", "plate a b", [WINDOW, at(0, 3), at(6, 3)]), ("lies_in", "plate a b", [WINDOW, A, P])],
+    "summits": [
+        ("need_box", "value", [BOX]), ("summit", "mesh field box", [FAN, F, BOX]), ("summit_paper", "mesh field box", [FAN, F, BOX]),
+        ("check_summit", "mesh field box value", [FAN, F, BOX, (F, G)])],
+    "desk": [("Desk", "plate", [SQUARE]), ("run_lines", "plate lines", [SQUARE, ("tell 0 1", "energy", "mesh", "at 9,9")], 1)],
+    "runs": [
+        ("run", "plate calls", [SQUARE, (("tell", 0, (1, 2)), None, ("undo",))], 1),
+        ("energy_with", "plate telling knots", [SQUARE, TELLING, PLACES], 2), ("whole_paper", "plate telling knots", [SQUARE, TELLING, PLACES], 2),
+        ("check_whole_paper", "plate telling knots value", [SQUARE, TELLING, PLACES, (FAN, F)], 2), ("pair_by", "move pair", [MOVE, (3, 1)]),
+        ("point_by", "move point", [MOVE, P]), ("plate_by", "move plate", [MOVE, WINDOW]), ("telling_by", "move telling", [MOVE, TELLING])],
+    "sheets": [
+        ("sheet_holds", "word question value", ["field", (FAN, FAN_WORTHS), F]), ("sheet_for", "word question", ["whole", (SQUARE, TELLING, PLACES)]),
+        ("contrary", "word", ["torn"])],
+    "ways": [
+        ("alike", "mesh other", [STEEP, FLAT]), ("lift_at", "mesh point", [FAN, P]), ("sharpest", "mesh", [STEEP]),
+        ("way_between", "mesh other", [STEEP, FLAT])],
 }
 
 
@@ -169,6 +227,10 @@ def told(value):
         return f"Plate({value.outer!r}, {value.holes!r})"
     if isinstance(value, Studio):
         return f"Studio({told(value.plate)}, {told(value.mesh())}, {value.telling()!r}, {value.calls()!r})"
+    if isinstance(value, Desk):
+        return f"Desk({told(value.studio)}, {value.said()!r})"
+    if isinstance(value, (tuple, list)):
+        return f"{value.__class__.__name__}({', '.join([told(one) for one in value])})"
     return repr(value)
 
 
@@ -217,7 +279,7 @@ class Calls(Checks):
                 self.assertEqual(told(result), before, call)
 
     def test_objects_are_not_iterable_and_have_no_length(self):
-        for one in (FAN, WINDOW, Studio(SQUARE)):
+        for one in (FAN, WINDOW, Studio(SQUARE), Desk(SQUARE)):
             for call in (iter, len):
                 with self.assertRaises(TypeError):
                     call(one)
@@ -241,4 +303,6 @@ class Interface(Checks):
                                 "weights": 5, "diagonals": 6, "first": 7, "networks": 8, "elimination": 4, "putting": 7,
                                 "slopes": 3, "energy": 4, "platetext": 2, "circles": 8, "field": 6, "bounds": 9, "streams": 6,
                                 "levels": 4, "tellings": 6, "studio": 2, "peeling": 3, "bridges": 4, "ears": 3, "lumps": 3, "lines": 4,
-                                "layers": 5, "raster": 4, "commands": 2})
+                                "layers": 5, "raster": 4, "commands": 2, "lowering": 3, "finer": 6, "halving": 4, "feet": 4, "marks": 7,
+                                "resistance": 4, "warming": 7, "cooling": 5, "responses": 5, "stars": 3, "stretches": 3, "summits": 4,
+                                "desk": 2, "runs": 8, "sheets": 3, "ways": 4})
