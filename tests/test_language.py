@@ -153,6 +153,30 @@ class Statements(unittest.TestCase):
         for name, node in everywhere((ast.GeneratorExp, ast.Yield, ast.YieldFrom)):
             self.fail((name, node.lineno))
 
+    def test_iterated_at_once(self):
+        # L2 Products, L23: a range may be measured; all of these are iterated where they stand.
+        lazy = "zip enumerate reversed range combinations permutations product items keys values".split()
+        takers = "list tuple dict sorted sum any all enumerate zip min max combinations".split()
+        for name, tree in TREES.items():
+            above = {child: node for node in ast.walk(tree) for child in ast.iter_child_nodes(node)}
+            for node in ast.walk(tree):
+                called = node.func if isinstance(node, ast.Call) else None
+                word = called.id if isinstance(called, ast.Name) else called.attr if isinstance(called, ast.Attribute) else ""
+                if word in lazy:
+                    upper = above[node]
+                    taken = isinstance(upper, ast.Call) and isinstance(upper.func, ast.Name) and upper.func.id in takers
+                    gone_over = isinstance(upper, (ast.For, ast.comprehension)) and upper.iter is node
+                    self.assertTrue(taken or gone_over, (name, node.lineno))
+
+    def test_sets_stand_on_the_spot(self):
+        for name, tree in TREES.items():
+            above = {child: node for node in ast.walk(tree) for child in ast.iter_child_nodes(node)}
+            for node in ast.walk(tree):
+                made = isinstance(node, ast.Call) and isinstance(node.func, ast.Name) and node.func.id in ("set", "frozenset")
+                if made or isinstance(node, (ast.Set, ast.SetComp)):
+                    upper = above[node]
+                    self.assertTrue(isinstance(upper, ast.Call) and upper.func.id in ("sorted", "len") and not upper.keywords, (name, node.lineno))
+
     def test_no_percent_sign_in_strings(self):
         for name, node in everywhere(ast.Constant):
             if isinstance(node.value, str):
