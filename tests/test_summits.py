@@ -245,11 +245,38 @@ class Checking(Checks):
         more = ((0, 1),) * 3 + ((1, 100), (1, 100)) + ((0, 1),) * 2
         self.assertIs(module.check_summit(TENT, field, box, ((at(1, 1), (1, 1)), (more,) * 4)), False)
         self.assertIs(module.check_summit(TENT, field, box, ((at(1, 1), (2, 1)), (flat,) * 4)), False)
+        # Parts below 0 could show anything.
+        for part in ((-1, 100), (-1, 1), (-7, 2)):
+            less = ((0, 1),) * 3 + (part, part) + ((0, 1),) * 2
+            for rows in ((less,) * 4, (flat, flat, less, flat)):
+                self.assertIs(module.check_summit(TENT, field, box, ((at(1, 1), (1, 1)), rows)), False)
+        best, rows = module.summit_paper(TENT, TENT_FIELD, (at(0, 0), at(1, 3)))
+        low = field_at(TENT, TENT_FIELD, at(0, 1))
+        less = tuple(tuple(frac(worth_of(part) - 9 * (k in (3, 4))) for k, part in enumerate(row)) for row in rows)
+        self.assertIs(module.check_summit(TENT, TENT_FIELD, (at(0, 0), at(1, 3)), ((at(0, 1), low), less)), False)
         self.assertIs(module.check_summit(TENT, field, box, ((at(5, 1), (1, 1)), (flat,) * 4)), False)
         # More than what is told somewhere can be shown by a point that has it, but not by another one.
         tent = module.summit_paper(TENT, TENT_FIELD, box)
         self.assertIs(module.check_summit(TENT, TENT_FIELD, box, (tent[0], tent[1])), True)
         self.assertIs(module.check_summit(TENT, TENT_FIELD, box, ((at(1, 1), (2, 1)), tent[1])), False)
+
+    def test_points_beside_the_box(self):
+        # The rows show more worth, too; but only a point of the box may have it.
+        for right, up in ((1, 0), (-1, 0), (0, 1), (0, -1)):
+            field = tuple(frac(right * x + up * y) for x, y in [xy(point) for point in TENT.points])
+            box = (at(1, 1), at(3, 3))
+            (point, worth), rows = module.summit_paper(TENT, field, box)
+            self.assertIs(module.check_summit(TENT, field, box, ((point, worth), rows)), True)
+            for far in (Fraction(3, 2), Fraction(1, 9), 0, -1):
+                there = at(2 + (1 + far) * right, 2 + (1 + far) * up)
+                value = ((there, field_at(TENT, field, there)), rows) if far <= 1 else None
+                self.assertIs(module.check_summit(TENT, field, box, value), far == 0)
+            # As much worth beside the box, at the same height.
+            side = at(2 + right + 2 * up, 2 + up + 2 * right)
+            self.same(field_at(TENT, field, side), worth)
+            self.assertIs(module.check_summit(TENT, field, box, ((side, worth), rows)), False)
+            other = at(2 + right - 2 * up, 2 + up - 2 * right)
+            self.assertIs(module.check_summit(TENT, field, box, ((other, worth), rows)), False)
 
     def test_another_number_left_over(self):
         # A triangle beside the box: what is left over may be above 0.
