@@ -6,6 +6,8 @@ from leastfield.errors import InvalidCommand, Refused
 from leastfield.inside import side_of
 from leastfield.studio import Studio
 
+QUESTIONS = ("calls", "depth", "energy", "field", "flows", "knots", "span", "telling", "worths", "calm", "mesh")
+
 
 def _answer(studio, word):
     """What a studio tells when it is asked by a word."""
@@ -32,9 +34,6 @@ def _answer(studio, word):
             return studio.is_calm()
         case _:
             return (studio.mesh().points, studio.mesh().triangles)
-
-
-QUESTIONS = ("calls", "depth", "energy", "field", "flows", "knots", "span", "telling", "worths", "calm", "mesh")
 
 
 def _worth_at(studio, point):

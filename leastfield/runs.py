@@ -1,8 +1,8 @@
 """Runs of calls, papers of the least energy on a plate, and plates that are moved."""
 
+from leastfield.energy import energy
 from leastfield.errors import Refused
 from leastfield.field import check_field, least_field
-from leastfield.energy import energy
 from leastfield.flips import failing
 from leastfield.fractions import negative, plus, times, whole
 from leastfield.kinds import is_tuple_of

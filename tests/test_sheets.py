@@ -8,7 +8,7 @@ from leastfield.bounds import is_calm
 from leastfield.circles import check_clear, check_torn
 from leastfield.ears import mesh_by_ears
 from leastfield.energy import energy
-from leastfield.errors import InvalidSize, NoName
+from leastfield.errors import InvalidSize, NoName, Refused
 from leastfield.field import check_field, least_field
 from leastfield.finer import check_finer
 from leastfield.first import all_partings, completed, first_mesh, is_parting, many_diagonals
@@ -20,7 +20,6 @@ from leastfield.places import check_outside, check_place
 from leastfield.plates import Plate
 from leastfield.runs import check_whole_paper
 from leastfield.streams import check_stream_worths, stream_worths
-from leastfield.errors import Refused
 from leastfield.studio import mesh_with
 from leastfield.tellings import worths_of
 from tests.checks import Checks
